@@ -1,9 +1,10 @@
-package divisor
+package gcd
 
 import (
 	"slices"
 
 	"exactppl/api"
+	"exactppl/wide"
 )
 
 // part returns the part of m with the variables of s.
@@ -25,17 +26,6 @@ func mapped(p api.Poly, change func(m api.Mono) api.Mono) api.Poly {
 	return q
 }
 
-// degrees returns the greatest exponent of each variable in p.
-func degrees(p api.Poly) api.Mono {
-	var most api.Mono
-	for _, t := range p {
-		for v, exp := range t.Mono {
-			most[v] = max(most[v], exp)
-		}
-	}
-	return most
-}
-
 // lowest returns the least exponent of each variable in p, which is not zero.
 func lowest(p api.Poly) api.Mono {
 	least := p[0].Mono
@@ -49,7 +39,7 @@ func lowest(p api.Poly) api.Mono {
 
 // leading returns the coefficient of the greatest power of the variable v in p, which is not zero.
 func leading(p api.Poly, v int) api.Poly {
-	top := degrees(p)[v]
+	top := wide.Degrees(p)[v]
 	var lead api.Poly
 	for _, t := range p {
 		if t.Mono[v] == top {

@@ -1,4 +1,4 @@
-package divisor
+package gcd
 
 import (
 	"math/bits"

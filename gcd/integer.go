@@ -1,13 +1,13 @@
-package divisor
+package gcd
 
 import (
 	"exactppl/api"
-	"exactppl/polynomial"
 	"exactppl/rational"
+	"exactppl/wide"
 )
 
 // one returns the polynomial 1.
-func one() api.Poly { return polynomial.Const(rational.Int(1)) }
+func one() api.Poly { return wide.Const(rational.Int(1)) }
 
 // commonNumber returns the greatest positive number of which a and b, which are not zero, are multiples by integers.
 func commonNumber(a, b api.Rat) api.Rat {
@@ -29,8 +29,7 @@ func numberContent(p api.Poly) api.Rat {
 // divided returns p divided by the number c, which is not zero.
 func divided(p api.Poly, c api.Rat) api.Poly {
 	inverse, _ := rational.Div(rational.Int(1), c)
-	p, _ = polynomial.Scale(p, inverse)
-	return p
+	return wide.Mul(p, wide.Const(inverse))
 }
 
 // primitive returns the multiple of p, which is not zero, by a positive number whose coefficients are coprime integers.
@@ -38,12 +37,12 @@ func primitive(p api.Poly) api.Poly { return divided(p, numberContent(p)) }
 
 // quotient returns p divided by q, which divides it.
 func quotient(p, q api.Poly) api.Poly {
-	p, _ = polynomial.Divide(p, q)
+	p, _ = wide.Divide(p, q)
 	return p
 }
 
 // divides reports whether q, which is not zero, divides p.
 func divides(q, p api.Poly) bool {
-	_, e := polynomial.Divide(p, q)
+	_, e := wide.Divide(p, q)
 	return e == api.OK
 }

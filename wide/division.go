@@ -1,4 +1,4 @@
-package polynomial
+package wide
 
 import (
 	"container/heap"
@@ -63,23 +63,11 @@ func (r *remainder) Pop() any {
 	return place
 }
 
-// Divide returns the polynomial whose product with q is p. It returns ErrDivide if q is zero, and ErrUnequal if there is no such polynomial.
+// Divide returns p divided by q, which is not zero, or ErrUnequal if q does not divide p.
 func Divide(p, q api.Poly) (api.Poly, api.Errno) {
-	p, q, e := normBoth(p, q)
-	switch {
-	case e != api.OK:
-		return nil, e
-	case len(q) == 0:
-		return nil, api.ErrDivide
-	}
-	return divide(p, q)
-}
-
-// divide returns p divided by q, which is not zero, or ErrUnequal.
-func divide(p, q api.Poly) (api.Poly, api.Errno) {
 	var quotient api.Poly
 	first, others := q[0], q[1:]
-	room := monoQuotient(degrees(p), degrees(q)) // the degrees of factors add up
+	room := monoQuotient(Degrees(p), Degrees(q)) // the degrees of factors add up
 	rest := newRemainder(p)
 	for t, found := rest.next(); found; t, found = rest.next() {
 		m := monoQuotient(t.Mono, first.Mono)
@@ -107,22 +95,22 @@ func imagesFail(p, q api.Poly) bool {
 	if len(b) == 0 {
 		return false
 	}
-	_, e := divide(a, b)
+	_, e := Divide(a, b)
 	return e != api.OK
 }
 
 // isAlone reports whether no variable but v occurs in p.
 func isAlone(p api.Poly, v int) bool {
-	most := degrees(p)
+	most := Degrees(p)
 	most[v] = 0
 	return most == api.Mono{}
 }
 
 // image returns p with a number in the place of each variable but kept.
 func image(p api.Poly, kept int) api.Poly {
-	for v, exp := range degrees(p) {
+	for v, exp := range Degrees(p) {
 		if exp > 0 && v != kept {
-			p = insert(split(p, v), Const(rational.Int(v+2)))
+			p = Replace(p, v, Const(rational.Int(v+2)))
 		}
 	}
 	return p

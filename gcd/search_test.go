@@ -1,4 +1,4 @@
-package divisor
+package gcd
 
 import (
 	"math/big"
@@ -167,7 +167,7 @@ func TestBadLuck(t *testing.T) {
 	} {
 		a, b := sumOf(x, y, one()), sumOf(times(word(1), 2), times(word(3), 0, 2), times(word(2)))
 		p, q := productOf(g, a), productOf(g, b)
-		if got := monic(greatest(p, q)); !polynomial.Equal(got, monic(g)) {
+		if got := Of(p, q); !polynomial.Equal(got, Monic(g)) {
 			t.Errorf("%s: not the greatest common divisor", name)
 		}
 	}
@@ -210,7 +210,7 @@ func TestUnluckyCofactors(t *testing.T) {
 		"equal at the first point":     sumOf(x, times(word(2), 0, 1), times(rational.Neg(word(at[1])))),
 		"equal along a line":           sumOf(times(word(2), 1), y, times(rational.Neg(word(at[0])))),
 	} {
-		got := monic(greatest(productOf(g, a), productOf(g, b)))
+		got := Of(productOf(g, a), productOf(g, b))
 		if !polynomial.Equal(got, g) {
 			t.Errorf("%s: not the greatest common divisor", name)
 		}

@@ -1,9 +1,9 @@
-package divisor
+package gcd
 
 import (
 	"exactppl/api"
-	"exactppl/polynomial"
 	"exactppl/rational"
+	"exactppl/wide"
 )
 
 // A lift is the target of a problem as far as it is known: its shape, and integers that agree with its coefficients modulo the product of the primes so far. They are the ones next to zero, so that enough primes make them equal to the coefficients.
@@ -53,8 +53,7 @@ func (l *lift) target(p *problem) api.Poly {
 			terms = append(terms, api.Term{Mono: m, Coef: l.numbers[power][i]})
 		}
 	}
-	terms, _ = polynomial.Norm(terms)
-	return terms
+	return wide.Norm(terms)
 }
 
 // shifted returns p times v^exp, in new memory.

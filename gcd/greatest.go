@@ -1,11 +1,11 @@
-package divisor
+package gcd
 
 import (
 	"cmp"
 	"slices"
 
 	"exactppl/api"
-	"exactppl/polynomial"
+	"exactppl/wide"
 )
 
 // A gcdFunc returns the greatest common divisor of two polynomials, multiplied by a number other than zero.
@@ -29,7 +29,7 @@ func greatest(p, q api.Poly) api.Poly {
 			v := cheapest(a, b)
 			contentA, contentB := gcd.content(a, v), gcd.content(b, v)
 			g = gcd.withoutContent(quotient(a, contentA), quotient(b, contentB), v, bounds)
-			g, _ = polynomial.Mul(g, gcd(contentA, contentB))
+			g = wide.Mul(g, gcd(contentA, contentB))
 		}
 		return f.restore(g)
 	}
@@ -38,7 +38,7 @@ func greatest(p, q api.Poly) api.Poly {
 
 // simple returns the greatest common divisor of a and b if it lacks a variable of theirs, or is one of them, and otherwise nil.
 func (gcd gcdFunc) simple(a, b api.Poly, bounds api.Mono) api.Poly {
-	inA, inB := degrees(a), degrees(b)
+	inA, inB := wide.Degrees(a), wide.Degrees(b)
 	var gone set // the variables that no common divisor has
 	for v, bound := range bounds {
 		gone[v] = bound == 0 && max(inA[v], inB[v]) > 0
@@ -75,7 +75,7 @@ func (gcd gcdFunc) content(p api.Poly, v int) api.Poly { return gcd.ofAll(split(
 // withoutContent returns the greatest common divisor of a and b, whose coefficients are integers, and whose contents for the variable v are 1. Its exponents are at most bounds.
 func (gcd gcdFunc) withoutContent(a, b api.Poly, v int, bounds api.Mono) api.Poly {
 	p := problem{a: a, b: b, kept: v, lead: gcd.integral(leading(a, v), leading(b, v))}
-	inA, inB, inLead := degrees(a), degrees(b), degrees(p.lead)
+	inA, inB, inLead := wide.Degrees(a), wide.Degrees(b), wide.Degrees(p.lead)
 	for other, bound := range bounds {
 		p.most[other] = min(bound+inLead[other], inA[other], inB[other])
 		if other != v && p.most[other] > 0 {
@@ -91,14 +91,13 @@ func (gcd gcdFunc) withoutContent(a, b api.Poly, v int, bounds api.Mono) api.Pol
 
 // integral returns the greatest common divisor of p and q, whose coefficients are integers, among the polynomials with integer coefficients.
 func (gcd gcdFunc) integral(p, q api.Poly) api.Poly {
-	g := primitive(gcd(p, q))
-	g, _ = polynomial.Scale(g, commonNumber(numberContent(p), numberContent(q)))
-	return g
+	number := commonNumber(numberContent(p), numberContent(q))
+	return wide.Mul(primitive(gcd(p, q)), wide.Const(number))
 }
 
 // degreeBounds returns for each variable a number that its degree in no common divisor of a and b exceeds. Nearly always it is the degree in the greatest one.
 func degreeBounds(a, b api.Poly) api.Mono {
-	inA, inB := degrees(a), degrees(b)
+	inA, inB := wide.Degrees(a), wide.Degrees(b)
 	x := firstField.point()
 	var bounds api.Mono
 	for v := range bounds {
@@ -118,7 +117,7 @@ func degreeBounds(a, b api.Poly) api.Mono {
 // cheapest returns the variable of a and b for which images take the least work.
 func cheapest(a, b api.Poly) int {
 	best, least := 0, 0
-	inA, inB := degrees(a), degrees(b)
+	inA, inB := wide.Degrees(a), wide.Degrees(b)
 	for v := range inA {
 		work := inA[v] * inB[v] * min(len(leading(a, v)), len(leading(b, v)))
 		if work > 0 && (least == 0 || work < least) {
