@@ -7,8 +7,8 @@ import (
 	"testing"
 
 	"exactppl/api"
-	"exactppl/polynomial"
 	"exactppl/rational"
+	"exactppl/wide"
 )
 
 // The parts of the search, and what is unlikely in a search: primes and points that are roots of what they must not be roots of.
@@ -121,15 +121,12 @@ func TestRecurrences(t *testing.T) {
 	}
 }
 
-func sumOf(l ...api.Poly) api.Poly {
-	p, _ := polynomial.Norm(slices.Concat(l...))
-	return p
-}
+func sumOf(l ...api.Poly) api.Poly { return wide.Norm(slices.Concat(l...)) }
 
 func productOf(l ...api.Poly) api.Poly {
 	p := one()
 	for _, q := range l {
-		p, _ = polynomial.Mul(p, q)
+		p = wide.Mul(p, q)
 	}
 	return p
 }
@@ -167,7 +164,7 @@ func TestBadLuck(t *testing.T) {
 	} {
 		a, b := sumOf(x, y, one()), sumOf(times(word(1), 2), times(word(3), 0, 2), times(word(2)))
 		p, q := productOf(g, a), productOf(g, b)
-		if got := Of(p, q); !polynomial.Equal(got, Monic(g)) {
+		if got := Of(p, q); !same(got, Monic(g)) {
 			t.Errorf("%s: not the greatest common divisor", name)
 		}
 	}
@@ -211,7 +208,7 @@ func TestUnluckyCofactors(t *testing.T) {
 		"equal along a line":           sumOf(times(word(2), 1), y, times(rational.Neg(word(at[0])))),
 	} {
 		got := Of(productOf(g, a), productOf(g, b))
-		if !polynomial.Equal(got, g) {
+		if !same(got, g) {
 			t.Errorf("%s: not the greatest common divisor", name)
 		}
 		if got := greatest(a, b); !isConstant(got) {

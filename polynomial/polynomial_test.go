@@ -370,6 +370,10 @@ func TestLimitOfSubstitutions(t *testing.T) {
 	}
 	got, e := polynomial.Substitute(join(power(0, 1024), power(0, 3)), 0, wide) // its result has very many terms
 	checkError(t, e, api.ErrLimit, got, "Substitute", wide)
+	wide, _ = polynomial.Substitute(wide, 0, nil)
+	equal := join(power(0, 1000), api.Poly{{Mono: api.Mono{999, 2, 2, 2, 2, 2, 2, 2}, Coef: rational.Int(-1)}}) // both parts reach 2000 in each variable
+	got, e = polynomial.Substitute(equal, 0, wide)
+	checkError(t, e, api.ErrLimit, got, "Substitute", wide)
 }
 
 // P3.4

@@ -24,15 +24,6 @@ func split(p api.Poly, v int) []api.Poly {
 	return coefs
 }
 
-// leading returns the coefficient of the greatest power of the variable v in p, in the memory of the coefficients of p.
-func leading(p api.Poly, v int) api.Poly {
-	coefs := split(p, v)
-	if len(coefs) == 0 {
-		return nil
-	}
-	return coefs[len(coefs)-1]
-}
-
 // Insert returns the sum of coefs[i] q^i r^(top-i), where top is the last index: a polynomial with these coefficients, at q / r, times r^top. It goes down to the next power that occurs in one step (Horner's method with gaps).
 func Insert(coefs []api.Poly, q, r api.Poly) api.Poly {
 	if len(coefs) == 0 {

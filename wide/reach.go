@@ -1,6 +1,11 @@
 package wide
 
-import "exactppl/api"
+import (
+	"cmp"
+	"slices"
+
+	"exactppl/api"
+)
 
 // A Reach tells how far the exponents of a sum can go, before it is computed: the greatest exponent of each variable in its parts, and whether the sum surely has it too, because nothing cancels it.
 type Reach struct {
@@ -31,36 +36,60 @@ func (r *Reach) add(degrees api.Mono) {
 	}
 }
 
-// Insertion returns the reach of Insert(coefs, q, r).
+// Insertion returns the reach of Insert(coefs, q, r), where r is not zero.
 func Insertion(coefs []api.Poly, q, r api.Poly) Reach {
 	var whole Reach
-	parts := make([]api.Mono, len(coefs)) // the degrees of the parts
 	inQ, inR := Degrees(q), Degrees(r)
 	for i, c := range coefs {
-		if len(c) == 0 || i > 0 && len(q) == 0 {
-			continue
+		if len(c) > 0 && (i == 0 || len(q) > 0) {
+			whole.add(inserted(Degrees(c), inQ, inR, i, len(coefs)-1-i))
 		}
-		rest := len(coefs) - 1 - i
-		parts[i] = monoProduct(Degrees(c), monoProduct(monoPower(inQ, i), monoPower(inR, rest)))
-		whole.add(parts[i])
 	}
 	for v, most := range whole.Most {
 		if most > api.MaxExp && !whole.Sure[v] {
-			whole.Sure[v] = len(topImage(coefs, parts, q, r, v, most)) > 0
+			whole.Sure[v] = isSure(coefs, q, r, v)
 		}
 	}
 	return whole
 }
 
-// topImage returns the coefficient of v^most in Insert(coefs, q, r), with a number in the place of each variable. The parts have the given degrees, of which most is the greatest one in v.
-func topImage(coefs []api.Poly, parts []api.Mono, q, r api.Poly, v, most int) api.Poly {
-	images := make([]api.Poly, len(coefs))
+// inserted returns the monomial of c q^i r^j, given those of c, q and r.
+func inserted(c, q, r api.Mono, i, j int) api.Mono {
+	return monoProduct(c, monoProduct(monoPower(q, i), monoPower(r, j)))
+}
+
+// isSure reports whether the sum of Insert(coefs, q, r), where q and r are not zero, surely has the exponent of v that its parts have: the coefficients of the first monomial of all parts do not cancel, in an order in which the exponents of v are compared first.
+func isSure(coefs []api.Poly, q, r api.Poly, v int) bool {
+	var first api.Mono
+	numbers := make([]api.Poly, len(coefs)) // of the parts that have this monomial
+	inQ, inR := ahead(q, v), ahead(r, v)
 	for i, c := range coefs {
-		if parts[i][v] == most {
-			images[i] = image(leading(c, v), v)
+		if len(c) == 0 {
+			continue
+		}
+		t := ahead(c, v)
+		m := inserted(t.Mono, inQ.Mono, inR.Mono, i, len(coefs)-1-i)
+		order := cmp.Or(cmp.Compare(m[v], first[v]), slices.Compare(m[:], first[:]))
+		if order > 0 {
+			first = m
+			clear(numbers)
+		}
+		if order >= 0 {
+			numbers[i] = Const(t.Coef)
 		}
 	}
-	return Insert(images, image(leading(q, v), v), image(leading(r, v), v))
+	return len(Insert(numbers, Const(inQ.Coef), Const(inR.Coef))) > 0
+}
+
+// ahead returns the first term of p, which is not zero, in an order in which the exponents of v are compared first.
+func ahead(p api.Poly, v int) api.Term {
+	first := p[0]
+	for _, t := range p {
+		if t.Mono[v] > first.Mono[v] {
+			first = t
+		}
+	}
+	return first
 }
 
 // Beyond reports whether an exponent greater than MaxExp is certain in the sum, also when it is divided by a polynomial whose exponents are at most those of divisor. Otherwise only the sum itself can tell.
