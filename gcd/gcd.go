@@ -18,6 +18,14 @@ func Monic(p api.Poly) api.Poly {
 // Of returns the greatest common divisor of p and q: a monic polynomial, or zero if both are zero.
 func Of(p, q api.Poly) api.Poly { return Monic(greatest(p, q)) }
 
+// Int returns the greatest common divisor of two integers, which are at least 0.
+func Int(a, b int) int {
+	for b != 0 {
+		a, b = b, a%b
+	}
+	return a
+}
+
 // isConstant reports whether p is a number other than zero.
 func isConstant(p api.Poly) bool {
 	return len(p) == 1 && p[0].Mono == api.Mono{}

@@ -91,16 +91,9 @@ func newFrame(p, q api.Poly) frame {
 func (f *frame) widen(p api.Poly, low api.Mono) {
 	for _, t := range p {
 		for v, exp := range t.Mono {
-			f.strides[v] = gcdInt(exp-low[v], f.strides[v])
+			f.strides[v] = Int(exp-low[v], f.strides[v])
 		}
 	}
-}
-
-func gcdInt(a, b int) int {
-	for b != 0 {
-		a, b = b, a%b
-	}
-	return a
 }
 
 // narrow returns p, which has the monomial low, in the frame.

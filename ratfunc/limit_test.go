@@ -78,6 +78,11 @@ func TestSumLimit(t *testing.T) {
 		{over(high, sum(high, number(1))), over(number(-1), sum(high, number(-1))), api.Quot{}, api.ErrLimit},
 		{whole(poly(term(1, api.MaxExp))), whole(poly(term(-1, api.MaxExp), term(3, 1))), whole(poly(term(3, 1))), api.OK},
 		{over(high, poly(term(1, 1), term(-1))), over(number(-1), poly(term(1, 1), term(-1))), whole(geometric(1000)), api.OK},
+		// The parts of these numerators have the exponent 1100.
+		{over(poly(term(1, 600)), a), over(poly(term(-1, 600)), b), over(product(poly(term(1, 600)), sum(b, negated(a))), product(a, b)), api.OK},
+		{over(poly(term(1, 600)), a), over(poly(term(1, 600)), b), api.Quot{}, api.ErrLimit},
+		{over(poly(term(1, 600)), a), over(poly(term(-1, 600), term(1, 525)), b), api.Quot{}, api.ErrLimit},
+		{over(poly(term(1, 600)), a), over(poly(term(-1, 600), term(1, 524)), b), over(sum(product(poly(term(1, 600)), sum(b, negated(a))), product(poly(term(1, 524)), a)), product(a, b)), api.OK},
 	} {
 		got, e := ratfunc.Add(c.f, c.g)
 		if c.e != api.OK {
@@ -169,6 +174,16 @@ func TestSubstituteLimit(t *testing.T) {
 		{over(poly(term(1, 900), term(1)), poly(term(1, 900), term(2))), fraction, api.Quot{}, api.ErrLimit},
 		{over(poly(term(1, 900), term(1, 0, 1)), poly(term(1, 900), term(2, 0, 1))), fraction, api.Quot{}, api.ErrLimit},
 		{over(unity, poly(term(1, api.MaxExp), term(2))), whole(poly(term(1, api.MaxExp), term(1, 1), term(1))), api.Quot{}, api.ErrLimit},
+		{over(poly(term(1, 2)), poly(term(1, 2), term(1, 0, 1000), term(1))), whole(poly(term(1, 0, 600))), api.Quot{}, api.ErrLimit},
+		{over(one, poly(term(1, 2), term(1, 0, 1000), term(1))), whole(poly(term(1, 0, 600))), api.Quot{}, api.ErrLimit},
+		{over(poly(term(1, 2), term(1, 0, 1000), term(1)), poly(term(1, 1), term(1, 0, 1))), whole(poly(term(1, 0, 600))), api.Quot{}, api.ErrLimit},
+		{over(poly(term(1, 1000), term(1, 0, 999)), poly(term(1, 1000), term(-1, 0, 1000), term(5))), whole(poly(term(1, 0, 1000), term(1, 0, 1))), api.Quot{}, api.ErrLimit},
+		{over(poly(term(1, 400), term(1, 200)), poly(term(1, 200), term(-1, 0, 600))), whole(poly(term(1, 0, 3), term(1))), api.Quot{}, api.ErrLimit},
+		{over(poly(term(1, 400), term(-1, 0, 800)), poly(term(1, 200), term(1, 0, 400))), whole(poly(term(1, 0, 2), term(1))), whole(sum(pow(poly(term(1, 0, 2), term(1)), 200), poly(term(-1, 0, 400)))), api.OK},
+		{over(poly(term(1, 1)), poly(term(1, 2), term(1, 0, 1000), term(1))), whole(poly(term(1, 0, 600))), api.Quot{}, api.ErrLimit},
+		{over(poly(term(1, 3)), poly(term(1, 2), term(1, 1), term(-1, 0, 600))), whole(poly(term(1, 0, 600))), whole(poly(term(1, 0, 600))), api.OK},
+		{over(poly(term(1, 2), term(1, 1), term(-1, 0, 600)), poly(term(1, 3))), whole(poly(term(1, 0, 600))), over(one, poly(term(1, 0, 600))), api.OK},
+		{over(poly(term(1, 2)), poly(term(1, 1), term(1, 0, 1000))), whole(poly(term(1, 0, 600))), over(poly(term(1, 0, 600)), poly(term(1, 0, 400), term(1))), api.OK},
 		{whole(poly(term(1, 2), term(-1, 1, 900))), whole(poly(term(1, 0, 900), term(1))), whole(poly(term(1, 0, 900), term(1))), api.OK},
 	} {
 		got, e := ratfunc.Substitute(c.f, 0, c.g)

@@ -11,8 +11,8 @@ import (
 
 // R3, R5 and the rule that results are new memory
 
-// wide returns a copy of p with other numbers in the memory behind all its lists.
-func wide(p api.Poly) api.Poly {
+// spare returns a copy of p with other numbers in the memory behind all its lists.
+func spare(p api.Poly) api.Poly {
 	limbs := func(a []uint32) []uint32 { return append(slices.Clone(a), 77, 78)[:len(a)] }
 	var q api.Poly
 	for _, t := range append(slices.Clone(p), term(79, 1, 2)) {
@@ -92,7 +92,7 @@ func TestMemory(t *testing.T) {
 	}
 	for _, f := range l {
 		for _, g := range l[:10] {
-			a, b := over(wide(f.Num), wide(f.Den)), over(wide(g.Num), wide(g.Den))
+			a, b := over(spare(f.Num), spare(f.Den)), over(spare(g.Num), spare(g.Den))
 			got, want := results(a, b), results(f, g)
 			for i, result := range got {
 				if !sameQuot(result, want[i]) {
@@ -102,7 +102,7 @@ func TestMemory(t *testing.T) {
 			}
 			for i, p := range []api.Poly{a.Num, a.Den, b.Num, b.Den} {
 				before := []api.Poly{f.Num, f.Den, g.Num, g.Den}[i]
-				if !samePoly(behind(p), behind(wide(before))) {
+				if !samePoly(behind(p), behind(spare(before))) {
 					t.Fatalf("an argument changed: %s, %s", text(f), text(g))
 				}
 			}
@@ -122,7 +122,7 @@ func TestSameArgument(t *testing.T) {
 		got, e = ratfunc.Div(g, g)
 		check(t, got, e, whole(number(1)), "Div", g, g)
 		got, e = ratfunc.Substitute(g, 0, f)
-		if e != api.OK || !samePoly(p, wide(p)) {
+		if e != api.OK || !samePoly(p, spare(p)) {
 			fail(t, "Substitute", got, e, g, f)
 		}
 	}

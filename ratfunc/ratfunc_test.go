@@ -174,6 +174,28 @@ func TestSums(t *testing.T) {
 	}
 }
 
+func TestEqual(t *testing.T) {
+	p, q := poly(term(1, 1)), poly(term(1, 0, 1))
+	for _, c := range []struct {
+		f, g api.Quot
+		want bool
+	}{
+		{over(p, q), over(p, q), true},
+		{over(p, q), over(product(p, q, number(-2)), product(q, q, number(-2))), true},
+		{over(p, q), over(p, sum(q, number(1))), false},
+		{over(p, q), over(q, q), false},
+		{over(p, q), over(negated(p), q), false},
+		{over(p, q), over(q, p), false},
+		{over(nil, p), whole(nil), true},
+		{whole(poly(term(1, api.MaxExp))), over(number(1), poly(term(1, api.MaxExp))), false},
+		{over(poly(term(1, api.MaxExp)), poly(term(1, 1))), whole(poly(term(1, api.MaxExp-1))), true},
+	} {
+		if ratfunc.Equal(c.f, c.g) != c.want || ratfunc.Equal(c.g, c.f) != c.want {
+			t.Errorf("Equal of %s and %s is not %v", text(c.f), text(c.g), c.want)
+		}
+	}
+}
+
 func TestZero(t *testing.T) {
 	r := rand.New(rand.NewPCG(7, 8))
 	for _, num := range zeros() {

@@ -164,7 +164,7 @@ func expand(r *rand.Rand, f api.Quot, p api.Poly) api.Quot {
 // A line is a polynomial in one variable modulo a prime: its coefficients, from the power 0 on, without zeros at the end.
 type line []int
 
-const prime = 1<<31 - 1
+const prime = 1<<31 - 19 // not 2^31 - 1, for which 2^31 is 1
 
 // raise returns a to the power n modulo the prime.
 func raise(a, n int) int {

@@ -79,7 +79,7 @@ func (s *substitution) isRoot(p api.Poly) bool {
 
 // beyond reports whether num or den, of which the reaches are given, surely exceed the limit in lowest terms if they are not zero. A common divisor of them divides the resultant of n and d, which is a determinant with as many rows of n as of d.
 func (s *substitution) beyond(num, den wide.Reach) bool {
-	rows := len(s.n) - 1
+	rows := s.rows()
 	inNum, inDen := wide.Degrees(s.outer.num), wide.Degrees(s.outer.den)
 	var resultant api.Mono
 	for v := range resultant {
@@ -88,6 +88,17 @@ func (s *substitution) beyond(num, den wide.Reach) bool {
 		}
 	}
 	return num.Beyond(least(resultant, den.Most)) || den.Beyond(least(resultant, num.Most))
+}
+
+// rows returns the number of the rows of n in the resultant. If only powers of a power of v occur, that power is taken for v.
+func (s *substitution) rows() int {
+	stride := 0
+	for i := range s.n {
+		if len(s.n[i])+len(s.d[i]) > 0 {
+			stride = gcd.Int(i, stride)
+		}
+	}
+	return (len(s.n) - 1) / max(stride, 1)
 }
 
 // least returns the lesser exponent of each variable.
