@@ -62,14 +62,14 @@ func inserted(c, q, r api.Mono, i, j int) api.Mono {
 func isSure(coefs []api.Poly, q, r api.Poly, v int) bool {
 	var first api.Mono
 	numbers := make([]api.Poly, len(coefs)) // of the parts that have this monomial
-	inQ, inR := ahead(q, v), ahead(r, v)
+	inQ, inR := Ahead(q, v), Ahead(r, v)
 	for i, c := range coefs {
 		if len(c) == 0 {
 			continue
 		}
-		t := ahead(c, v)
+		t := Ahead(c, v)
 		m := inserted(t.Mono, inQ.Mono, inR.Mono, i, len(coefs)-1-i)
-		order := cmp.Or(cmp.Compare(m[v], first[v]), slices.Compare(m[:], first[:]))
+		order := Compare(v, m, first)
 		if order > 0 {
 			first = m
 			clear(numbers)
@@ -81,8 +81,13 @@ func isSure(coefs []api.Poly, q, r api.Poly, v int) bool {
 	return len(Insert(numbers, Const(inQ.Coef), Const(inR.Coef))) > 0
 }
 
-// ahead returns the first term of p, which is not zero, in an order in which the exponents of v are compared first.
-func ahead(p api.Poly, v int) api.Term {
+// Compare returns -1, 0 or 1 as the monomial a is less than, equal to or greater than b, in an order in which the exponents of v are compared first.
+func Compare(v int, a, b api.Mono) int {
+	return cmp.Or(cmp.Compare(a[v], b[v]), slices.Compare(a[:], b[:]))
+}
+
+// Ahead returns the greatest term of p, which is not zero, in the order of Compare. It is in the memory of p.
+func Ahead(p api.Poly, v int) api.Term {
 	first := p[0]
 	for _, t := range p {
 		if t.Mono[v] > first.Mono[v] {

@@ -1,6 +1,6 @@
-// Package wide contains polynomials whose exponents have no limit. Layers 3 to 5 compute with them, because a result within the limit can have parts beyond it.
+// Package wide contains polynomials whose exponents have no limit. Layers 3 to 5 and 11 compute with them, because a result within the limit can have parts beyond it.
 //
-// The exponents of all arguments are at least 0. The exported functions take normal forms; Norm, Add, Sub and Mul take every other representation as well. Their results are normal forms in new memory. The functions that are not exported may return parts of their arguments.
+// The exponents of all arguments are at least 0. The exported functions take normal forms; Norm, Add, Sub and Mul take every other representation as well. The polynomials that they return are normal forms in new memory. The functions that are not exported may return parts of their arguments.
 package wide
 
 import (

@@ -88,6 +88,34 @@ func TestSpread(t *testing.T) {
 	}
 }
 
+// The term ahead has the greatest exponent of the variable, and is the first one of those that have.
+func TestAhead(t *testing.T) {
+	r := rand.New(rand.NewPCG(5, 6))
+	for range 300 {
+		p := random(r, step)
+		for v := range 3 {
+			if len(p) == 0 {
+				break
+			}
+			ahead := wide.Ahead(p, v)
+			if ahead.Mono[v] != wide.Degrees(p)[v] || !slices.ContainsFunc(p, func(u api.Term) bool { return u.Mono == ahead.Mono }) {
+				t.Fatalf("%v is ahead in %v for the variable %d", ahead, p, v)
+			}
+			for _, u := range p {
+				order := wide.Compare(v, ahead.Mono, u.Mono)
+				if order != -wide.Compare(v, u.Mono, ahead.Mono) || (order == 0) != (u.Mono == ahead.Mono) || order < 0 {
+					t.Fatalf("%v is ahead in %v for the variable %d, but compared with %v it is %d", ahead, p, v, u, order)
+				}
+			}
+		}
+	}
+	for v, want := range []int{-1, 1, -1, -1} {
+		if got := wide.Compare(v, api.Mono{1, 7, 2}, api.Mono{2, 6, 2}); got != want {
+			t.Errorf("the order for the variable %d is %d", v, got)
+		}
+	}
+}
+
 func TestDivideFails(t *testing.T) {
 	p := poly(term(1, step), term(1))
 	for _, q := range []api.Poly{poly(term(1, step), term(2)), poly(term(1, 0, 1)), poly(term(1, step+1))} {
