@@ -6,7 +6,7 @@ import (
 	"exactppl/api"
 )
 
-// hasUnused reports whether the kind of c does not exist, or c has a field that is not zero and that its kind does not use. Sites are not examined.
+// hasUnused reports whether c has a field that is not zero and that its kind does not use. Sites are not examined.
 func hasUnused(c api.Cmd) bool {
 	switch c.Kind {
 	case api.CmdIf:
@@ -24,9 +24,6 @@ func hasUnused(c api.Cmd) bool {
 		c.Args, c.Outs = nil, nil
 	case api.CmdDraw:
 		c.Var, c.Dist = 0, api.Dist{}
-	case api.CmdCut:
-	default:
-		return true
 	}
 	return c.Var != 0 || !isZeroForm(c.Form) || !isZeroDist(c.Dist) || len(c.Then)+len(c.Else)+len(c.Args)+len(c.Outs) > 0
 }
@@ -42,7 +39,7 @@ func isZeroDist(d api.Dist) bool {
 // isZeroRat reports whether a field is zero, which is more than that it denotes 0.
 func isZeroRat(r api.Rat) bool { return !r.Neg && len(r.Num)+len(r.Den) == 0 }
 
-// isCommand reports whether c, all of whose fields are used, is well-formed. The commands in it are not examined.
+// isCommand reports whether c is well-formed. Fields that its kind does not use and the commands in it are not examined.
 func (s scope) isCommand(c *api.Cmd) bool {
 	switch c.Kind {
 	case api.CmdSet:

@@ -33,11 +33,13 @@ func (s scope) isDist(d api.Dist) bool {
 		return rational.Cmp(d.From, d.To) < 0
 	case api.DistBeta:
 		return min(d.Low, d.High) >= 1 && max(d.Low, d.High) <= api.MaxBeta
+	case api.DistNested:
+		return isIndex(d.Low, s.nested)
 	}
-	return isIndex(d.Low, s.nested)
+	return false
 }
 
-// hasUnusedInDist reports whether the kind of d does not exist, or d has a field that is not zero and that its kind does not use.
+// hasUnusedInDist reports whether d has a field that is not zero and that its kind does not use.
 func hasUnusedInDist(d api.Dist) bool {
 	switch d.Kind {
 	case api.DistBeta:
@@ -52,8 +54,6 @@ func hasUnusedInDist(d api.Dist) bool {
 		fallthrough
 	case api.DistGeometric:
 		d.From = api.Rat{}
-	default:
-		return true
 	}
 	d.Kind = 0
 	return !isZeroDist(d)

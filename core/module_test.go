@@ -226,6 +226,35 @@ func TestMaxSites(t *testing.T) {
 	}
 }
 
+// Draws, loops and sites on the deepest level.
+func TestDeepSites(t *testing.T) {
+	for _, c := range []api.Cmd{draw(0, fair(2)), loop(num(1)), observe(num(1)), branch(num(1), []api.Cmd{}, nil)} {
+		for _, inElse := range []bool{false, true} {
+			for _, site := range []int{0, 1, 5} {
+				l := []api.Cmd{draw(0, fair(2))}
+				c.Site = site
+				inner := []api.Cmd{c, set(0, num(1))}
+				for range maxLevels - 1 {
+					inner = []api.Cmd{branch(num(1), inner, nil)}
+					if inElse {
+						inner[0].Then, inner[0].Else = nil, inner[0].Then
+					}
+				}
+				m := module([]api.Cell{truth}, append(l, inner...)...)
+				checkSites(t, m)
+				other := empty()
+				for _, body := range parts(&other) {
+					if c.Kind != api.CmdWhile {
+						*body = inner
+					}
+				}
+				checkSites(t, other)
+				checkAt(t, other, nil)
+			}
+		}
+	}
+}
+
 func TestClass(t *testing.T) {
 	for _, cells := range [][]api.Cell{{truth}, {truth, small}, {truth, natural}, {truth, real}, {truth, natural, real}, {truth, real, natural}, {truth, real, small, real}, {truth, natural, natural}} {
 		checkClass(t, module(cells))

@@ -316,6 +316,32 @@ func inForms(f api.Form) []api.Module {
 	return append(l, with(observe(node(api.FoNot, f))), with(observe(node(api.FoCond, f, num(1), num(1)))), with(observe(node(api.FoCond, num(1), f, num(1)))), with(observe(node(api.FoCond, num(1), num(1), f))))
 }
 
+// A command on the deepest level is examined, too.
+func TestDeepFaults(t *testing.T) {
+	met := map[string]bool{}
+	for _, inElse := range []bool{false, true} {
+		for i := range parts(&api.Module{Procs: make([]api.Proc, 2), Nested: make([]api.Module, 2)}) {
+			m := empty()
+			body := parts(&m)[i]
+			*body = list(maxLevels-1, inElse)
+			inner := body
+			for len(*inner) > 1 {
+				if c := &(*inner)[1]; inElse {
+					inner = &c.Else
+				} else {
+					inner = &c.Then
+				}
+			}
+			*inner = []api.Cmd{branch(num(1), []api.Cmd{set(7, num(1))}, nil)}
+			checkFault(t, met, "Outs of an assignment are cells", m)
+			*inner = []api.Cmd{branch(num(1), []api.Cmd{set(0, num(1))}, []api.Cmd{set(0, num(1)), observe(variable(2))})}
+			checkFault(t, met, "a variable is a cell", m)
+			*inner = []api.Cmd{branch(num(1), []api.Cmd{set(0, num(1))}, []api.Cmd{set(0, num(1)), observe(variable(1))})}
+			checkModule(t, "200 levels", m, api.OK)
+		}
+	}
+}
+
 // withArgs returns a form with this number of arguments.
 func withArgs(op, n int) api.Form {
 	return api.Form{Op: op, Args: slices.Repeat([]api.Form{num(1)}, n)}

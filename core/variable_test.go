@@ -117,6 +117,9 @@ func TestDeepVariables(t *testing.T) {
 	}
 	for _, n := range []int{maxLevels - 2, maxLevels - 1, maxLevels, maxLevels + 1, 3 * maxLevels} {
 		f := under(variable(1), n)
+		if got := core.Reads(node(api.FoSub, f, variable(-7))); got[0] != -7 {
+			t.Errorf("Reads stops behind %d levels: %v", n, got)
+		}
 		if got := slices.Contains(core.Reads(f), 1); got != (n < maxLevels) {
 			t.Errorf("Reads finds the variable below %d levels: %v", n, got)
 		}
@@ -129,6 +132,8 @@ func TestDeepVariables(t *testing.T) {
 					l[0].Then, l[0].Else = nil, l[0].Then
 				}
 			}
+			checkVariables(t, append(slices.Clone(l), set(4, variable(5))))
+			checkVariables(t, []api.Cmd{branch(num(1), l, l)})
 			checkVariables(t, l)
 			if got := core.Count(l); got != min(n, maxLevels)+2*max(0, min(1, maxLevels-n)) {
 				t.Errorf("Count is %d for %d levels", got, n)
