@@ -24,50 +24,70 @@ func truth(holds bool) int {
 
 // Eval returns the value of f where the variable i is state[i]. Its errors concern all parts of f.
 func Eval(f api.Form, state []int) (int, api.Errno) {
-	if e := evalError(&f, len(state)); e != api.OK {
-		return 0, e
-	}
-	return value(&f, state), api.OK
-}
-
-// evalError returns the error of Eval where there are so many variables.
-func evalError(f *api.Form, variables int) api.Errno {
-	var broken, hasRat, unknown bool
-	for level, part := range parts(f, maxLevels+1) {
-		if level > maxLevels {
-			return api.ErrLimit
-		}
-		broken = broken || len(part.Args) != arity(part.Op)
-		hasRat = hasRat || part.Op == api.FoRat
-		unknown = unknown || part.Op == api.FoVar && !isIndex(part.Int, variables)
-	}
+	x := evaluation{state: state}
+	n := x.value(&f, 1)
 	switch {
-	case broken:
-		return api.ErrForm
-	case hasRat:
-		return api.ErrClass
-	case unknown:
-		return api.ErrRange
+	case x.isDeep:
+		return 0, api.ErrLimit
+	case x.isBroken:
+		return 0, api.ErrForm
+	case x.hasRat:
+		return 0, api.ErrClass
+	case x.isUnknown:
+		return 0, api.ErrRange
 	}
-	return api.OK
+	return n, api.OK
 }
 
-// value returns the value of f, for which Eval has no error. Values stay within MaxArith, so that no result here overflows.
-func value(f *api.Form, state []int) int {
+// evaluation is the evaluation of a form, with what was found in any of its parts.
+type evaluation struct {
+	state                               []int
+	isDeep, isBroken, hasRat, isUnknown bool
+}
+
+// value returns the value of f, a part at this level, or 0 if there is none. Values stay within MaxArith, so that no result here overflows.
+func (x *evaluation) value(f *api.Form, level int) int {
+	if level > maxLevels {
+		x.isDeep = true
+		return 0
+	}
+	var args [3]int
+	for i := range f.Args {
+		n := x.value(&f.Args[i], level+1)
+		if i < len(args) {
+			args[i] = n
+		}
+	}
+	if len(f.Args) != arity(f.Op) {
+		x.isBroken = true
+		return 0
+	}
 	switch f.Op {
 	case api.FoInt:
 		return limited(f.Int)
+	case api.FoRat:
+		x.hasRat = true
+		return 0
 	case api.FoVar:
-		return limited(state[f.Int])
+		return x.variable(f.Int)
 	case api.FoNot:
-		return truth(value(&f.Args[0], state) == 0)
+		return truth(args[0] == 0)
 	case api.FoCond:
-		if value(&f.Args[0], state) != 0 {
-			return value(&f.Args[1], state)
+		if args[0] != 0 {
+			return args[1]
 		}
-		return value(&f.Args[2], state)
+		return args[2]
 	}
-	return operate(f.Op, value(&f.Args[0], state), value(&f.Args[1], state))
+	return operate(f.Op, args[0], args[1])
+}
+
+// variable returns the value of the variable i, or 0 if there is none.
+func (x *evaluation) variable(i int) int {
+	if !isIndex(i, len(x.state)) {
+		x.isUnknown = true
+		return 0
+	}
+	return limited(x.state[i])
 }
 
 // limited returns the number from -MaxArith to MaxArith that is nearest to n.
