@@ -1,4 +1,4 @@
-package trace
+package execution
 
 import (
 	"slices"
@@ -7,10 +7,19 @@ import (
 	"exactppl/core"
 )
 
-// run is a run that is being executed: its trace so far, without the mass, and what is left of the commands.
-type run struct {
+// Run is a run up to the draw Draw, or up to its end if Draw is nil: its trace so far, without the mass. Each choice has its State in new memory.
+type Run struct {
 	api.Trace
-	cells []api.Cell
+	Draw   *api.Cmd
+	cells  []api.Cell
+	left   rest
+	passed []junction
+}
+
+// junction is what a run was at a draw that it has passed.
+type junction struct {
+	draw  *api.Cmd
+	state []int
 	left  rest
 }
 
@@ -20,20 +29,35 @@ type rest struct {
 	outer    *rest
 }
 
-// start returns a run before its first command.
-func (p program) start() run {
-	r := run{cells: p.cells, left: rest{commands: p.body}}
+// Start returns a run that has made no choice.
+func (p Program) Start() *Run {
+	r := &Run{cells: p.cells, left: rest{commands: p.body}}
 	r.State = make([]int, len(p.cells))
 	for i := range r.State {
 		r.assign(i, 0)
 	}
+	r.advance()
 	return r
 }
 
-// fork returns a run that goes on independently of r.
-func (r run) fork() run {
-	r.Choices, r.State = slices.Clone(r.Choices), slices.Clone(r.State)
-	return r
+// Choose gives the draw an outcome, which is the index of a weight, and executes what follows up to the next draw.
+func (r *Run) Choose(outcome int) {
+	c := r.Draw
+	r.passed = append(r.passed, junction{c, r.State, r.left})
+	r.State = slices.Clone(r.State)
+	r.Choices = append(r.Choices, api.Choice{Site: c.Site, Outcome: outcome})
+	r.assign(c.Var, c.Dist.Low+outcome)
+	r.advance()
+}
+
+// Back goes back to the draw behind the first n choices, if there are more of them.
+func (r *Run) Back(n int) {
+	if n >= len(r.passed) {
+		return
+	}
+	j := r.passed[n]
+	r.passed, r.Choices = r.passed[:n], r.Choices[:n]
+	r.Draw, r.State, r.left, r.End = j.draw, j.state, j.left, 0
 }
 
 // next takes off the first command, or returns nil if there is none.
@@ -55,17 +79,19 @@ func (l *rest) enter(branch []api.Cmd) {
 	*l = rest{branch, &outer}
 }
 
-// advance executes the commands up to the next draw, which it returns, or up to the end of the run.
-func (r *run) advance() *api.Cmd {
+// advance executes the commands up to the next draw, or up to the end of the run.
+func (r *Run) advance() {
+	r.Draw = nil
 	for r.End == 0 {
 		c := r.left.next()
 		if c == nil {
 			r.End = api.EndAccepted
-			return nil
+			return
 		}
 		switch c.Kind {
 		case api.CmdDraw:
-			return c
+			r.Draw = c
+			return
 		case api.CmdSet:
 			r.set(c.Outs, c.Args)
 		case api.CmdIf:
@@ -82,17 +108,10 @@ func (r *run) advance() *api.Cmd {
 			r.End = api.EndCut
 		}
 	}
-	return nil
-}
-
-// choose gives a draw an outcome.
-func (r *run) choose(c *api.Cmd, outcome int) {
-	r.Choices = append(r.Choices, api.Choice{Site: c.Site, Outcome: outcome})
-	r.assign(c.Var, c.Dist.Low+outcome)
 }
 
 // set sets variables, all at once.
-func (r *run) set(outs []int, args []api.Form) {
+func (r *Run) set(outs []int, args []api.Form) {
 	values := make([]int, len(args))
 	for i, f := range args {
 		values[i] = r.value(f)
@@ -103,10 +122,10 @@ func (r *run) set(outs []int, args []api.Form) {
 }
 
 // value returns the value of a form, for which core.Eval has no error in an enumerable module.
-func (r *run) value(f api.Form) int {
+func (r *Run) value(f api.Form) int {
 	n, _ := core.Eval(f, r.State)
 	return n
 }
 
 // assign sets a variable to the number of its range that is nearest to n.
-func (r *run) assign(i, n int) { r.State[i] = core.Clamp(r.cells[i], n) }
+func (r *Run) assign(i, n int) { r.State[i] = core.Clamp(r.cells[i], n) }
